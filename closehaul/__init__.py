@@ -1,0 +1,1 @@
+"""Closehaul: sailing by whole numbers, each answer with a paper."""

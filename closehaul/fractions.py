@@ -28,11 +28,18 @@ def lowest(top, bottom):
 
 
 def added(one, other):
-    return lowest(one[0] * other[1] + other[0] * one[1], one[1] * other[1])
+    # Both are in their lowest numbers, so nothing but a divisor of both bottoms can divide the new top and the new
+    # bottom. To look for that alone keeps a sum of many great fractions quick.
+    shared = common_divisor(one[1], other[1])
+    one_times = other[1] // shared
+    other_times = one[1] // shared
+    top = one[0] * one_times + other[0] * other_times
+    rest = common_divisor(shared, top)
+    return (top // rest, other_times * (other[1] // rest))
 
 
 def taken(one, other):
-    return lowest(one[0] * other[1] - other[0] * one[1], one[1] * other[1])
+    return added(one, (-other[0], other[1]))
 
 
 def multiplied(one, other):

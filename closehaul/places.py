@@ -22,15 +22,18 @@ def north_of(place):
 
 
 def place_added(one, other):
-    x = one[0] * other[2] + other[0] * one[2]
-    y = one[1] * other[2] + other[1] * one[2]
-    return lowest_place(x, y, one[2] * other[2])
+    # As in the sum of two fractions, nothing but a divisor of both bottoms can divide all three new numbers.
+    shared = common_divisor(one[2], other[2])
+    one_times = other[2] // shared
+    other_times = one[2] // shared
+    x = one[0] * one_times + other[0] * other_times
+    y = one[1] * one_times + other[1] * other_times
+    rest = common_divisor(common_divisor(shared, x), y)
+    return (x // rest, y // rest, other_times * (other[2] // rest))
 
 
 def place_taken(one, other):
-    x = one[0] * other[2] - other[0] * one[2]
-    y = one[1] * other[2] - other[1] * one[2]
-    return lowest_place(x, y, one[2] * other[2])
+    return place_added(one, (-other[0], -other[1], other[2]))
 
 
 def place_times(place, fraction):

@@ -4,14 +4,10 @@ from fractions import Fraction
 
 from closehaul.errors import NoFraction
 from closehaul.fractions import added, divided, is_before, lowest, multiplied, taken
-from tests.helper import is_fraction
+from tests.helper import is_fraction, pair
 
 GREAT = 10 ** 600 - 1
 SMALL = [(top, bottom) for top in range(-7, 8) for bottom in range(1, 8) if is_fraction((top, bottom))]
-
-
-def pair(value):
-    return (value.numerator, value.denominator)
 
 
 def great_fractions():

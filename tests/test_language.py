@@ -151,10 +151,12 @@ class Language(unittest.TestCase):
             bound = set(names_bound(tree))
             for name in bound:
                 self.assertTrue(name in TWO_UNDERSCORES or not name.startswith("_"), name)
+            imported = {alias.asname or alias.name for node in nodes_of(path, ast.ImportFrom) for alias in node.names}
+            classes = {node.name for node in nodes_of(path, ast.ClassDef)}
             for name in locals_bound(tree):
                 self.assertNotIn(name, dir(builtins))
-            for node in nodes_of(path, ast.ImportFrom):
-                bound.update(alias.asname or alias.name for alias in node.names)
+                self.assertNotIn(name, imported | classes)
+            bound.update(imported)
             for node in nodes_of(path, ast.Name):
                 self.assertTrue(node.id in bound or node.id in OWN_NAMES, node.id)
 

@@ -3,18 +3,10 @@ import unittest
 from fractions import Fraction
 
 from closehaul.places import along, east_of, north_of, place_added, place_of, place_taken, place_times
-from tests.helper import is_fraction, is_place
+from tests.helper import is_fraction, is_place, pair, parts_of
 
 START = (0, 0, 1)
 GREAT = 10 ** 600 - 1
-
-
-def pair(value):
-    return (value.numerator, value.denominator)
-
-
-def parts(place):
-    return (Fraction(place[0], place[2]), Fraction(place[1], place[2]))
 
 
 def small_fractions():
@@ -60,7 +52,7 @@ class Parts(unittest.TestCase):
             for north in small_fractions():
                 place = place_of(east, north)
                 self.assertTrue(is_place(place), place)
-                self.assertEqual(parts(place), (Fraction(*east), Fraction(*north)))
+                self.assertEqual(parts_of(place), (Fraction(*east), Fraction(*north)))
                 self.assertEqual((east_of(place), north_of(place)), (east, north))
 
     def test_places_come_back_from_their_parts(self):
@@ -68,7 +60,7 @@ class Parts(unittest.TestCase):
             east, north = east_of(place), north_of(place)
             self.assertTrue(is_fraction(east))
             self.assertTrue(is_fraction(north))
-            self.assertEqual((Fraction(*east), Fraction(*north)), parts(place))
+            self.assertEqual((Fraction(*east), Fraction(*north)), parts_of(place))
             self.assertEqual(place_of(east, north), place)
 
 
@@ -76,13 +68,13 @@ class Sums(unittest.TestCase):
     """[1.3]"""
 
     def check(self, one, other):
-        first, second = parts(one), parts(other)
+        first, second = parts_of(one), parts_of(other)
         total = place_added(one, other)
         self.assertTrue(is_place(total), (one, other))
-        self.assertEqual(parts(total), (first[0] + second[0], first[1] + second[1]))
+        self.assertEqual(parts_of(total), (first[0] + second[0], first[1] + second[1]))
         rest = place_taken(one, other)
         self.assertTrue(is_place(rest), (one, other))
-        self.assertEqual(parts(rest), (first[0] - second[0], first[1] - second[1]))
+        self.assertEqual(parts_of(rest), (first[0] - second[0], first[1] - second[1]))
 
     def test_by_hand(self):
         self.assertEqual(place_added((1, 1, 6), (1, 0, 3)), (3, 1, 6))
@@ -114,7 +106,7 @@ class Times(unittest.TestCase):
         told = place_times(place, fraction)
         value = Fraction(*fraction)
         self.assertTrue(is_place(told), (place, fraction))
-        self.assertEqual(parts(told), (parts(place)[0] * value, parts(place)[1] * value))
+        self.assertEqual(parts_of(told), (parts_of(place)[0] * value, parts_of(place)[1] * value))
 
     def test_by_hand(self):
         self.assertEqual(place_times((3, -6, 4), (2, 3)), (1, -2, 2))
@@ -140,7 +132,7 @@ class Along(unittest.TestCase):
 
     def check(self, bearing, place):
         told = along(bearing, place)
-        east, north = parts(place)
+        east, north = parts_of(place)
         self.assertTrue(is_fraction(told), (bearing, place))
         self.assertEqual(told, pair(bearing[0] * east + bearing[1] * north), (bearing, place))
 

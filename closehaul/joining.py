@@ -1,0 +1,58 @@
+"""Winds joined, the drift of a watch, and winds turned back, each told by its least headings."""
+
+from closehaul.bearings import least_headings, step_of, turn_of, vector_added
+
+
+def steps_round(headings):
+    if len(headings) == 1:
+        return []
+    behind = headings[1:] + headings[:1]
+    return [step_of(start, end) for start, end in zip(headings, behind)]
+
+
+def goes_first(one, other):
+    # From the least heading on all steps rise, as pairs are compared, until the greatest one; then all fall. Within
+    # such a half no two steps are half a round apart, so there the turn tells which one comes first.
+    one_rises = one > (0, 0)
+    other_rises = other > (0, 0)
+    if one_rises != other_rises:
+        return one_rises
+    return turn_of(one, other) > 0
+
+
+def steps_merged(ones, others):
+    steps = []
+    taken = 0
+    for other in others:
+        while taken < len(ones) and goes_first(ones[taken], other):
+            steps.append(ones[taken])
+            taken = taken + 1
+        steps.append(other)
+    return steps + ones[taken:]
+
+
+def joined(one, other):
+    # Round the joined wind go just the steps that go round the two, so there is no need of all sums of headings.
+    ones = least_headings(one)
+    others = least_headings(other)
+    heading = vector_added(ones[0], others[0])
+    headings = [heading]
+    for step in steps_merged(steps_round(ones), steps_round(others)):
+        heading = vector_added(heading, step)
+        headings.append(heading)
+    return least_headings(headings)
+
+
+def joined_all(winds):
+    total = ((0, 0),)
+    for wind in winds:
+        total = joined(total, wind)
+    return total
+
+
+def drift_of(watch):
+    return least_headings([vector_added(heading, watch[1]) for heading in watch[0]])
+
+
+def turned_back(wind):
+    return least_headings([(-heading[0], -heading[1]) for heading in wind])

@@ -27,40 +27,51 @@ def farthest(wind, bearing):
     return max([dot_of(heading, bearing) for heading in wind])
 
 
-def chain_of(vectors):
-    # A vector from which the way on doesn't turn to the left is a share of the two beside it, or lies within.
+def turn_by(start, middle, end):
+    return turn_of(step_of(start, middle), step_of(middle, end))
+
+
+def chain_of(spots, turn):
+    # A spot from which the way on doesn't turn to the left is a share of the two beside it, or lies within.
     kept = []
-    for vector in vectors:
-        while len(kept) > 1 and turn_of(step_of(kept[-2], kept[-1]), step_of(kept[-1], vector)) <= 0:
+    for spot in spots:
+        while len(kept) > 1 and turn(kept[-2], kept[-1], spot) <= 0:
             kept.pop()
-        kept.append(vector)
+        kept.append(spot)
     return kept
 
 
-def least_headings(wind):
-    rising = sorted(set(wind))
-    if len(rising) == 1:
-        return (rising[0],)
-    there = chain_of(rising)
-    back = chain_of(list(reversed(rising)))
-    # Each chain ends where the other one begins, so its last vector is left to that one.
+def least_round(rising, turn):
+    if len(rising) < 2:
+        return tuple(rising)
+    there = chain_of(rising, turn)
+    back = chain_of(list(reversed(rising)), turn)
+    # Each chain ends where the other one begins, so its last spot is left to that one.
     return tuple(there[:-1] + back[:-1])
 
 
-def sides_of(wind):
-    headings = least_headings(wind)
-    if len(headings) == 1:
-        return tuple([(bearing, dot_of(bearing, headings[0])) for bearing in EVERY_WAY])
-    sides = []
-    for number in range(len(headings)):
-        heading = headings[number]
-        step = step_of(headings[number - 1], heading)
-        # Going round against the sun's way one has all of the wind to the left, so nothing lies farther to the right.
-        sides.append((right_of(step), dot_of(right_of(step), heading)))
-        if len(headings) == 2:
+def least_headings(wind):
+    return least_round(sorted(set(wind)), turn_by)
+
+
+def bearings_round(corners, step_between):
+    if len(corners) == 1:
+        return [(bearing, corners[0]) for bearing in EVERY_WAY]
+    found = []
+    for number in range(len(corners)):
+        corner = corners[number]
+        step = step_between(corners[number - 1], corner)
+        # Going round against the sun's way one has all of them to the left, so nothing lies farther to the right.
+        found.append((right_of(step), corner))
+        if len(corners) == 2:
             # The two right hands hold a place on the line alone; its ends need a bearing each.
-            sides.append((step, dot_of(step, heading)))
-    return tuple(sides)
+            found.append((step, corner))
+    return found
+
+
+def sides_of(wind):
+    sides = bearings_round(least_headings(wind), step_of)
+    return tuple([(bearing, dot_of(bearing, heading)) for bearing, heading in sides])
 
 
 def bearing_beyond(one, other):

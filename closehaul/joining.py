@@ -3,15 +3,15 @@
 from closehaul.bearings import least_headings, step_of, turn_of, vector_added
 
 
-def steps_round(headings):
-    if len(headings) == 1:
+def steps_round(corners, step_between):
+    if len(corners) == 1:
         return []
-    behind = headings[1:] + headings[:1]
-    return [step_of(start, end) for start, end in zip(headings, behind)]
+    behind = corners[1:] + corners[:1]
+    return [step_between(start, end) for start, end in zip(corners, behind)]
 
 
 def goes_first(one, other):
-    # From the least heading on all steps rise, as pairs are compared, until the greatest one; then all fall. Within
+    # From the least corner on all steps rise, as pairs are compared, until the greatest one; then all fall. Within
     # such a half no two steps are half a round apart, so there the turn tells which one comes first.
     one_rises = one > (0, 0)
     other_rises = other > (0, 0)
@@ -37,7 +37,7 @@ def joined(one, other):
     others = least_headings(other)
     heading = vector_added(ones[0], others[0])
     headings = [heading]
-    for step in steps_merged(steps_round(ones), steps_round(others)):
+    for step in steps_merged(steps_round(ones, step_of), steps_round(others, step_of)):
         heading = vector_added(heading, step)
         headings.append(heading)
     return least_headings(headings)

@@ -117,6 +117,12 @@ def random_wind(source, count, most):
     return tuple((source.randint(-most, most), source.randint(-most, most)) for heading in range(count))
 
 
+def random_row(source, most, count):
+    """Watches of few headings and any streams."""
+    return tuple((random_wind(source, source.choice((1, 1, 2, 2, 3, 5)), most), random_wind(source, 1, most)[0])
+                 for watch in range(count))
+
+
 def small_winds():
     """Winds of small numbers, of all shapes, the same ones each time."""
     winds = [
@@ -220,6 +226,119 @@ def weighted_shares(weights):
     """Shares that are 1 together, from weights; those of nought are left out."""
     total = sum(weights)
     return tuple((number, pair(Fraction(weight, total))) for number, weight in enumerate(weights) if weight > 0)
+
+
+def short_led_to(watches, course):
+    """The two Fractions to which a course leads, a short one or a whole one."""
+    end = [Fraction(0), Fraction(0)]
+    for (wind, stream), shares in zip(watches, course):
+        for k in (0, 1):
+            end[k] += led_to(wind, shares)[k] + summed(shares) * stream[k]
+    return tuple(end)
+
+
+def is_short(watches, course):
+    """As [6.1] tells it."""
+    if type(course) is not tuple or len(course) > len(watches):
+        return False
+    for number, shares in enumerate(course):
+        total = summed(shares)
+        last = number == len(course) - 1
+        if not (0 < total <= 1 if last else total == 1):
+            return False
+        wind = watches[number][0]
+        # Times what they are together, any shares of [4.1] are such that are 1 together.
+        if not right_shares(wind, tuple((heading, pair(Fraction(*share) / total)) for heading, share in shares)):
+            return False
+        if not all(is_fraction(share) for heading, share in shares):
+            return False
+    return True
+
+
+def is_barred(watches, number, place, bearings, part):
+    """[6.3] by its words, the part a Fraction."""
+    for bearing in bearings:
+        ahead = sum(far_of(wind, bearing) + how_far(bearing, stream) for wind, stream in watches[:number])
+        wind, stream = watches[number]
+        speed = far_of(wind, bearing) + how_far(bearing, stream)
+        if Fraction(how_far(bearing, place), place[2]) > ahead + part * speed:
+            return True
+    return False
+
+
+def left_by(watches, number, place, bearings):
+    """What bearings leave of a watch: its ends are nought, 1, or where along a bearing the place lies just as far."""
+    spots = [Fraction(0), Fraction(1)]
+    for bearing in bearings:
+        ahead = sum(far_of(wind, bearing) + how_far(bearing, stream) for wind, stream in watches[:number])
+        wind, stream = watches[number]
+        speed = far_of(wind, bearing) + how_far(bearing, stream)
+        if speed != 0:
+            spots.append((Fraction(how_far(bearing, place), place[2]) - ahead) / speed)
+    left = [spot for spot in spots if 0 <= spot <= 1 and not is_barred(watches, number, place, bearings, spot)]
+    return (pair(min(left)), pair(max(left))) if left else None
+
+
+def right_bars(watches, place, bars, moment):
+    """As [6.4] tells them; the moment a Fraction, None for never."""
+    whole = len(watches) if moment is None else -(-moment.numerator // moment.denominator)
+    if type(bars) is not tuple or len(bars) != whole:
+        return False
+    for number, entry in enumerate(bars):
+        if type(entry) is not tuple or len(entry) not in (1, 2) or not all(is_bearing(bearing) for bearing in entry):
+            return False
+        left = left_by(watches, number, place, entry)
+        if moment is None or number < whole - 1:
+            if left is not None:
+                return False
+        elif left is None or Fraction(*left[0]) != moment - number:
+            return False
+    return True
+
+
+def had_at(watches, place, moment):
+    """Whether the place can be had at a moment, a Fraction, without any bearing: all sums of the headings."""
+    sums = {(0, 0)}
+    part = moment
+    for wind, stream in watches:
+        now = min(part, 1)
+        part -= now
+        sums = {(x + now * (east + stream[0]), y + now * (north + stream[1])) for x, y in sums for east, north in wind}
+    spots = [place_at(Fraction(x), Fraction(y)) for x, y in sums]
+    bottom = 1
+    for spot in spots:
+        bottom = bottom * spot[2] // gcd(bottom, spot[2])
+    wind = [(spot[0] * bottom // spot[2], spot[1] * bottom // spot[2]) for spot in spots]
+    east, north = parts_of(place)
+    return can_be_sailed(wind, place_at(east * bottom, north * bottom))
+
+
+def made_whole(places):
+    """Vectors that lie as the places do, and by which number they are greater."""
+    times = 1
+    for place in places:
+        times = times * place[2] // gcd(times, place[2])
+    return [(place[0] * times // place[2], place[1] * times // place[2]) for place in places], times
+
+
+def is_in_area(corners, place):
+    """Whether a place is a share of some corners, told in any way."""
+    if not corners:
+        return False
+    vectors, times = made_whole(corners)
+    east, north = parts_of(place)
+    return can_be_sailed(vectors, place_at(east * times, north * times))
+
+
+def is_area_of(told, places):
+    """Whether what is told are the least corners of the places, in their order."""
+    if type(told) is not tuple or not all(is_place(corner) for corner in told):
+        return False
+    if not places or not told:
+        return not places and not told
+    vectors = made_whole(places + list(told))[0]
+    return is_least_round(tuple(vectors[len(places):])) and set(vectors[len(places):]) == needed_headings(
+        vectors[:len(places)])
 
 
 def nested_tuples(value):

@@ -14,6 +14,11 @@ FUNCTIONS = {
                "shares_stand(wind, place, answer)"),
     "courses": ("reach_of(watches)", "farthest_by(watches, bearing)", "course_end(watches, course)",
                 "course_to(watches, place)", "course_stands(watches, place, answer)"),
+    "soonest": ("short_moment(course)", "short_end(watches, course)", "soonest(watches, place)"),
+    "soonexam": ("barred_from(watches, number, place, bearings)", "soonest_stands(watches, place, answer)"),
+    "meeting": ("chase_of(watches, others)", "meeting(watches, others, place)"),
+    "areas": ("area_of(places)", "is_within(area, place)", "area_farthest(area, bearing)",
+              "area_cut(area, bearing, most)", "area_shared(one, other)", "area_spread(area, wind)"),
 }
 
 

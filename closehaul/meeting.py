@@ -13,18 +13,17 @@ def chase_of(watches, others):
     return tuple(chase)
 
 
-def course_of_one(watches, chase, course):
+def course_in_winds(winds, chase, course):
     # A corner of joined winds is a sum of one corner of each, so the shares of the chase are shares of each boat.
     found = []
-    for watch, chased, shares in zip(watches, chase, course):
-        found.append(shares_in_watch(watch[0], chased[0], shares))
+    for wind, watch, shares in zip(winds, chase, course):
+        found.append(shares_in_watch(wind, watch[0], shares))
     return tuple(found)
 
 
-def course_of_other(others, chase, course):
-    # The headings turned about one by one, since their numbers are to stay.
-    about = [(tuple([(-heading[0], -heading[1]) for heading in other[0]]), other[1]) for other in others]
-    return course_of_one(about, chase, course)
+def headings_about(wind):
+    # Not by least headings, since the numbers of the headings are to stay.
+    return tuple([(-heading[0], -heading[1]) for heading in wind])
 
 
 def meeting(watches, others, place):
@@ -32,6 +31,6 @@ def meeting(watches, others, place):
     answer = soonest(chase, place)
     if answer[0] == "never":
         return answer
-    course = course_of_one(watches, chase, answer[2])
-    other = course_of_other(others, chase, answer[2])
+    course = course_in_winds([watch[0] for watch in watches], chase, answer[2])
+    other = course_in_winds([headings_about(watch[0]) for watch in others], chase, answer[2])
     return ("at", answer[1], course, other, short_end(watches, course), answer[3])

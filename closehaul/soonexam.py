@@ -27,13 +27,10 @@ def barred_from(watches, number, place, bearings):
     return (least, greatest)
 
 
-def are_bearings(entry):
-    return len(entry) > 0 and (0, 0) not in entry
-
-
 def all_barred(watches, place, bars):
     for number, entry in enumerate(bars):
-        if not are_bearings(entry) or barred_from(watches, number, place, entry) is not None:
+        # An entry without a bearing bars nothing, so it needs no look of its own.
+        if (0, 0) in entry or barred_from(watches, number, place, entry) is not None:
             return False
     return True
 
@@ -53,7 +50,7 @@ def at_stands(watches, place, course, bars):
     if len(bars) == 0:
         return True
     last = len(bars) - 1
-    if not are_bearings(bars[last]) or not all_barred(watches, place, bars[:last]):
+    if (0, 0) in bars[last] or not all_barred(watches, place, bars[:last]):
         return False
     # The course leads there when its part of the last watch has gone by, so at least that part is left.
     left = barred_from(watches, last, place, bars[last])

@@ -1,5 +1,6 @@
 """What several test files ask of the answers that are told, reckoned without the program, and what they hand in."""
 
+import itertools
 import random
 from fractions import Fraction
 from math import gcd
@@ -237,6 +238,12 @@ def short_led_to(watches, course):
     return tuple(end)
 
 
+def all_sums(watches):
+    """Every sum of a heading of each watch, with the streams."""
+    winds = [[(x + stream[0], y + stream[1]) for x, y in wind] for wind, stream in watches]
+    return {(sum(x for x, y in some), sum(y for x, y in some)) for some in itertools.product(*winds)}
+
+
 def is_short(watches, course):
     """As [6.1] tells it."""
     if type(course) is not tuple or len(course) > len(watches):
@@ -339,6 +346,50 @@ def is_area_of(told, places):
     vectors = made_whole(places + list(told))[0]
     return is_least_round(tuple(vectors[len(places):])) and set(vectors[len(places):]) == needed_headings(
         vectors[:len(places)])
+
+
+def edges_of(area):
+    corners = [parts_of(corner) for corner in area]
+    return [(corners[k - 1], corners[k]) for k in range(len(corners))] if len(corners) > 1 else []
+
+
+def crossing(one, other):
+    """Where two edges cross in one place, if they do."""
+    step = (one[1][0] - one[0][0], one[1][1] - one[0][1])
+    way = (other[1][0] - other[0][0], other[1][1] - other[0][1])
+    across = turn(step, way)
+    if across == 0:
+        return None
+    start = (other[0][0] - one[0][0], other[0][1] - one[0][1])
+    part = turn(start, way) / across
+    if not (0 <= part <= 1 and 0 <= turn(start, step) / across <= 1):
+        return None
+    return place_at(one[0][0] + part * step[0], one[0][1] + part * step[1])
+
+
+def shared_places(one, other):
+    """Of the shared area at least all corners, and no place outside of it."""
+    found = [corner for corner in one if is_in_area(other, corner)]
+    found.extend(corner for corner in other if is_in_area(one, corner))
+    crossings = [crossing(edge, way) for edge in edges_of(one) for way in edges_of(other)]
+    return sorted(set(found + [place for place in crossings if place is not None]))
+
+
+def places_near(area, source):
+    """Places at corners, on sides and within, and a hair off these."""
+    spots = [parts_of(corner) for corner in area]
+    for time in range(6):
+        if spots:
+            some = [source.choice(spots) for spot in range(source.choice((2, 2, 3)))]
+            spots.append(tuple(sum(spot[k] for spot in some) / len(some) for k in (0, 1)))
+    hair = Fraction(1, source.choice((2, 10 ** 30)))
+    offs = [(0, 0), (hair, 0), (-hair, 0), (0, hair), (0, -hair), (hair, hair)]
+    return [place_at(spot[0] + off[0], spot[1] + off[1]) for spot in spots for off in offs] + [(0, 0, 1), (1, 2, 3)]
+
+
+def random_course(source, watches, most):
+    """Shares of many headings for each watch, 1 together in each."""
+    return tuple(weighted_shares([source.randint(0, most) for heading in wind[1:]] + [1]) for wind, stream in watches)
 
 
 def nested_tuples(value):

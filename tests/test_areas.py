@@ -5,7 +5,7 @@ from fractions import Fraction
 
 from closehaul.areas import area_cut, area_farthest, area_of, area_shared, area_spread, is_within
 from tests.helper import (bearings_of_all_sizes, bow, check_told, how_far, is_area_of, is_fraction, is_in_area, pair,
-                          parts_of, place_at, random_wind, shuffled, turn)
+                          parts_of, place_at, places_near, random_wind, shared_places, shuffled)
 
 START = (0, 0, 1)
 SQUARE = ((0, 0, 1), (4, 0, 1), (4, 4, 1), (0, 4, 1))
@@ -62,33 +62,6 @@ def random_areas(seed, times, most_places=14):
     return [area_of(tuple(places)) for places in random_sets(seed, times, most_places)]
 
 
-def edges_of(area):
-    corners = [parts_of(corner) for corner in area]
-    return [(corners[k - 1], corners[k]) for k in range(len(corners))] if len(corners) > 1 else []
-
-
-def crossing(one, other):
-    """Where two edges cross in one place, if they do."""
-    step = (one[1][0] - one[0][0], one[1][1] - one[0][1])
-    way = (other[1][0] - other[0][0], other[1][1] - other[0][1])
-    across = turn(step, way)
-    if across == 0:
-        return None
-    start = (other[0][0] - one[0][0], other[0][1] - one[0][1])
-    part = turn(start, way) / across
-    if not (0 <= part <= 1 and 0 <= turn(start, step) / across <= 1):
-        return None
-    return place_at(one[0][0] + part * step[0], one[0][1] + part * step[1])
-
-
-def shared_places(one, other):
-    """Of the shared area at least all corners, and no place outside of it."""
-    found = [corner for corner in one if is_in_area(other, corner)]
-    found.extend(corner for corner in other if is_in_area(one, corner))
-    crossings = [crossing(edge, way) for edge in edges_of(one) for way in edges_of(other)]
-    return sorted(set(found + [place for place in crossings if place is not None]))
-
-
 def cut_places(area, bearing, most):
     """Of the cut area at least all corners, and no place outside of it."""
     far = {corner: how_far(bearing, parts_of(corner)) - most for corner in area}
@@ -99,18 +72,6 @@ def cut_places(area, bearing, most):
             (east, north), (east_on, north_on) = parts_of(one), parts_of(other)
             found.append(place_at(east + part * (east_on - east), north + part * (north_on - north)))
     return sorted(set(found))
-
-
-def places_near(area, source):
-    """Places at corners, on sides and within, and a hair off these."""
-    spots = [parts_of(corner) for corner in area]
-    for time in range(6):
-        if spots:
-            some = [source.choice(spots) for spot in range(source.choice((2, 2, 3)))]
-            spots.append(tuple(sum(spot[k] for spot in some) / len(some) for k in (0, 1)))
-    hair = Fraction(1, source.choice((2, 10 ** 30)))
-    offs = [(0, 0), (hair, 0), (-hair, 0), (0, hair), (0, -hair), (hair, hair)]
-    return [place_at(spot[0] + off[0], spot[1] + off[1]) for spot in spots for off in offs] + [START, (1, 2, 3)]
 
 
 class AreaOf(unittest.TestCase):

@@ -1,4 +1,3 @@
-import itertools
 import random
 import unittest
 from fractions import Fraction
@@ -7,10 +6,10 @@ from closehaul.bearings import farthest, least_headings, sides_of
 from closehaul.courses import course_end, course_stands, course_to, farthest_by, reach_of
 from closehaul.errors import NoCourse
 from closehaul.joining import drift_of, joined_all
-from tests.helper import (GREAT, all_winds, bearings_of_all_sizes, bow, can_be_sailed, check_told, far_of, how_far,
-                          is_bearing, is_least_round, is_number, is_place, led_to, needed_headings, nested_tuples,
-                          parts_of, place_at, places_about, places_off_sides, random_wind, right_shares, shuffled,
-                          small_winds, weighted_shares)
+from tests.helper import (GREAT, all_sums, all_winds, bearings_of_all_sizes, bow, can_be_sailed, check_told, far_of,
+                          how_far, is_bearing, is_least_round, is_number, is_place, led_to, needed_headings,
+                          nested_tuples, parts_of, place_at, places_about, places_off_sides, random_course,
+                          random_wind, right_shares, shuffled, small_winds)
 
 START = (0, 0, 1)
 ROWS_BY_HAND = (
@@ -56,21 +55,10 @@ def all_rows():
     return list(ROWS_BY_HAND) + [WATCHES] + random_rows()
 
 
-def random_course(source, watches, most):
-    """Shares of many headings for each watch, 1 together in each."""
-    return tuple(weighted_shares([source.randint(0, most) for heading in wind[1:]] + [1]) for wind, stream in watches)
-
-
 def course_led_to(watches, course):
     ends = [led_to(wind, shares) for (wind, stream), shares in zip(watches, course)]
     ends.extend(stream for wind, stream in watches)
     return tuple(sum((end[k] for end in ends), Fraction(0)) for k in (0, 1))
-
-
-def all_sums(watches):
-    """Every sum of a heading of each watch, with the streams."""
-    winds = [[(x + stream[0], y + stream[1]) for x, y in wind] for wind, stream in watches]
-    return {(sum(x for x, y in some), sum(y for x, y in some)) for some in itertools.product(*winds)}
 
 
 class CourseEnd(unittest.TestCase):

@@ -19,7 +19,14 @@ FUNCTIONS = {
     "meeting": ("chase_of(watches, others)", "meeting(watches, others, place)"),
     "areas": ("area_of(places)", "is_within(area, place)", "area_farthest(area, bearing)",
               "area_cut(area, bearing, most)", "area_shared(one, other)", "area_spread(area, wind)"),
+    "buoys": ("buoy_table(watches, buoys)", "passing(watches, buoys)"),
+    "sure": ("sure_areas(forecasts, harbour)", "sure_shares(watch, area, place)",
+             "barring_watch(forecast, area, place)"),
+    "talk": ("line_said(log, line)", "log_of(lines)"),
 }
+LOG_METHODS = ("set_wind(self, name, wind)", "add_watch(self, name, stream)", "sail(self, shares)", "undo(self)",
+               "again(self)", "names(self)", "wind_named(self, name)", "watches(self)", "watches_left(self)",
+               "place_now(self)", "track(self)", "deeds(self)")
 
 
 class Interface(unittest.TestCase):
@@ -30,6 +37,14 @@ class Interface(unittest.TestCase):
                 with self.subTest(module=name, function=written):
                     function = getattr(module, written.partition("(")[0])
                     self.assertEqual(function.__name__ + str(inspect.signature(function)), written)
+
+    def test_the_log_has_its_methods(self):
+        log = importlib.import_module("closehaul.log").Log
+        self.assertEqual(str(inspect.signature(log)), "()")
+        for written in LOG_METHODS:
+            with self.subTest(method=written):
+                method = getattr(log, written.partition("(")[0])
+                self.assertEqual(method.__name__ + str(inspect.signature(method)), written)
 
 
 if __name__ == "__main__":

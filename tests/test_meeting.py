@@ -7,8 +7,8 @@ from closehaul.meeting import chase_of, meeting
 from closehaul.soonexam import soonest_stands
 from closehaul.soonest import soonest
 from tests.helper import (bow, check_told, is_fraction, is_least_round, is_place, is_short, needed_headings,
-                          nested_tuples, parts_of, place_at, random_row, random_wind, right_bars, short_led_to,
-                          summed, weighted_shares)
+                          nested_tuples, parts_of, place_at, random_course, random_row, random_wind, right_bars,
+                          short_led_to, summed)
 
 START = (0, 0, 1)
 EASTWARD = ((((0, 0), (2, 0)), (0, 0)),)
@@ -142,9 +142,7 @@ class Meeting(unittest.TestCase):
             other = random_row(source, source.choice((1, 3, 10 ** 9)), count)
             ends = []
             for row in (one, other):
-                course = tuple(weighted_shares([source.randint(0, 3) for heading in wind[1:]] + [1])
-                               for wind, stream in row)
-                ends.append(short_led_to(row, course))
+                ends.append(short_led_to(row, random_course(source, row, 3)))
             place = place_at(ends[0][0] - ends[1][0], ends[0][1] - ends[1][1])
             met = self.check(one, other, place)
             self.assertIsNotNone(met)

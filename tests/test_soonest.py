@@ -5,7 +5,7 @@ from fractions import Fraction
 from closehaul.errors import NoCourse, NoShares
 from closehaul.soonest import short_end, short_moment, soonest
 from tests.helper import (bow, check_told, had_at, is_fraction, is_place, is_short, nested_tuples, pair, parts_of,
-                          place_at, random_row, right_bars, short_led_to, summed, weighted_shares)
+                          place_at, random_course, random_row, right_bars, short_led_to, summed)
 
 START = (0, 0, 1)
 SQUARE = ((0, 0), (4, 0), (4, 4), (0, 4))
@@ -38,8 +38,7 @@ NO_SHORT_COURSES = (
 def random_short_course(source, watches, most):
     """A short course that ends in the midst of a watch, or at its end."""
     count = source.randint(0, len(watches))
-    course = [weighted_shares([source.randint(0, most) for heading in wind[1:]] + [1])
-              for wind, stream in watches[:count]]
+    course = list(random_course(source, watches[:count], most))
     if course and source.randrange(4):
         part = Fraction(source.randint(1, most), most)
         course[-1] = tuple((heading, pair(Fraction(*share) * part)) for heading, share in course[-1])

@@ -4,8 +4,8 @@ from fractions import Fraction
 
 from closehaul.soonest import short_end, soonest
 from closehaul.soonexam import barred_from, soonest_stands
-from tests.helper import (check_told, had_at, left_by, pair, parts_of, place_at, random_row, short_led_to,
-                          weighted_shares)
+from tests.helper import (check_told, had_at, left_by, pair, parts_of, place_at, random_course, random_row,
+                          short_led_to)
 
 START = (0, 0, 1)
 LINE = (((0, 0), (4, 0)), (0, 0))
@@ -33,9 +33,8 @@ def random_answers(seed, count):
         if len(found) % 2 == 0:
             place = place_at(Fraction(source.randint(-9, 9), source.choice((1, 2, 3))), Fraction(source.randint(-9, 9)))
         else:
-            upto = source.randint(1, len(watches))
-            place = place_at(*short_led_to(watches, tuple(weighted_shares([source.randint(0, 3) for h in w[1:]] + [1])
-                                                          for w, stream in watches[:upto])))
+            course = random_course(source, watches[:source.randint(1, len(watches))], 3)
+            place = place_at(*short_led_to(watches, course))
         found.append((watches, place, soonest(watches, place)))
     return found
 
